@@ -1,0 +1,1 @@
+"""Hedgerow: branching hedges told apart by their shape."""
