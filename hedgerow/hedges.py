@@ -65,17 +65,26 @@ def tips(hedge):
     return [knot for knot, near in enumerate(neighbours(hedge)) if len(near) <= 1]
 
 
-def lengths(hedge, knot):
+def walk_from(hedge, top):
+    # Each step is a knot and the one it hangs from, which has its own step ahead: walked backwards, all that hangs
+    # from a knot is done before the knot. No step calls another one, so a long row goes no deeper than a short one.
     beside = neighbours(hedge)
-    far = [None] * hedge[0]
-    far[knot] = 0
-    waiting = [knot]
-    while waiting:
-        here = waiting.pop()
-        for near in beside[here]:
-            if far[near] is None:
-                far[near] = far[here] + 1
-                waiting.append(near)
+    steps = [(top, None)]
+    at = 0
+    while at < len(steps):
+        step = steps[at]
+        for near in beside[step[0]]:
+            if near != step[1]:
+                steps.append((near, step[0]))
+        at += 1
+    return steps
+
+
+def lengths(hedge, knot):
+    far = [0] * hedge[0]
+    for here, over in walk_from(hedge, knot):
+        if over is not None:
+            far[here] = far[over] + 1
     return far
 
 

@@ -1,5 +1,6 @@
 """Hedges to test on, made without the program."""
 
+import copy
 import itertools
 import random
 
@@ -55,6 +56,82 @@ def grown(many, seed):
 def large_hedges():
     made = [row(40), star(40), last_star(40), row(39), star(39)]
     return made + [grown(many, seed) for seed, many in enumerate([6, 7, 9, 10, 11, 17, 28, 39, 40, 40, 40])]
+
+
+def beside(hedge, knot):
+    return [other for other in range(hedge[0]) if (min(knot, other), max(knot, other)) in hedge[1]]
+
+
+def all_lengths(hedge):
+    """The lengths between all knots, by trying each knot as a stop between each two."""
+    many = hedge[0]
+    far = [[0 if a == b else 1 if b in beside(hedge, a) else many for b in range(many)] for a in range(many)]
+    for stop in range(many):
+        for a in range(many):
+            for b in range(many):
+                far[a][b] = min(far[a][b], far[a][stop] + far[stop][b])
+    return far
+
+
+def all_ways(hedge):
+    """For each knot and each other one (and itself) the way between them, by walking on from knot to knot."""
+    found = {}
+    edge = [[knot] for knot in range(hedge[0])]
+    while edge:
+        for steps in edge:
+            found[steps[0], steps[-1]] = steps
+        edge = [steps + [near] for steps in edge for near in beside(hedge, steps[-1]) if near not in steps]
+    return found
+
+
+def grown_hedges(many):
+    """All hedges in which each knot is hung from one of a lesser number: every shape is among them."""
+    hung_from = itertools.product(*[range(knot) for knot in range(1, many)])
+    return [(many, sorted((over, at + 1) for at, over in enumerate(overs))) for overs in hung_from]
+
+
+def renumbered(hedge, names):
+    """The hedge in which each knot has another number, which the names tell."""
+    rods = [(names[a], names[b]) for a, b in hedge[1]]
+    return (hedge[0], sorted((min(rod), max(rod)) for rod in rods))
+
+
+def lot_of(many, seed):
+    """The knots in an order by lot (the same lot each time)."""
+    names = list(range(many))
+    random.Random(seed).shuffle(names)
+    return names
+
+
+def first_form(hedge):
+    """The first of all hedges that the knots numbered in any order make: hedges of one shape have it in common."""
+    return min(renumbered(hedge, names) for names in itertools.permutations(range(hedge[0])))
+
+
+def lists_within(thing):
+    """The lists in a thing, itself and those within lists and tuples."""
+    found = [thing] if isinstance(thing, list) else []
+    if isinstance(thing, (list, tuple)):
+        for part in thing:
+            found += lists_within(part)
+    return found
+
+
+def assert_told_anew(case, ask, *given):
+    """What is handed in stays as it was; lists told are new, and emptied they are told again as they were."""
+    before = copy.deepcopy(given)
+    first = ask(*given)
+    kept = copy.deepcopy(first)
+    second = ask(*given)
+    case.assertEqual(second, kept)
+    lists = lists_within(given) + lists_within(first) + lists_within(second)
+    case.assertEqual(len({id(one) for one in lists}), len(lists))
+    for told in lists_within(first):
+        told.clear()
+    case.assertEqual(given, before)
+    case.assertEqual(second, kept)
+    case.assertEqual(ask(*given), kept)
+    case.assertEqual(repr(ask(*given)), repr(kept))
 
 
 class Sulky:

@@ -34,6 +34,16 @@ type typing typing_extensions enum Enum IntEnum StrEnum Flag IntFlag Generic Pro
 NamedTuple TypedDict TYPE_CHECKING abstractmethod
 """.split()
 
+UNUSED_NAMES = """
+register mro elements open input version_info with_traceback add_note attrgetter breakpoint builtins compile copyright
+credits delattr dir eval exec exit gc getattr globals hasattr help id importlib license locals methodcaller os quit
+setattr super sys vars chr
+""".split()
+
+WALKED = "zip enumerate reversed range items keys values".split()
+WALKERS = "list tuple dict sorted sum any all enumerate zip min max join".split()
+CHANGERS = "append clear extend insert pop remove reverse setdefault update".split()
+
 FOREIGN_METHODS = {name for kind in (str, int, list, dict, set, bytes, tuple) for name in dir(kind)} - set(METHODS)
 
 
@@ -43,6 +53,19 @@ def package_files():
 
 def tree_of(path):
     return ast.parse(path.read_text(encoding="utf-8"))
+
+
+def imported(tree):
+    return [alias.name for node in tree.body if isinstance(node, ast.ImportFrom) for alias in node.names]
+
+
+def defined(tree):
+    names = [node.name for node in tree.body if isinstance(node, (ast.FunctionDef, ast.ClassDef))]
+    return names + [node.targets[0].id for node in tree.body if isinstance(node, ast.Assign)]
+
+
+def called(call):
+    return getattr(call.func, "id", None) or getattr(call.func, "attr", None)
 
 
 class FilesTest(unittest.TestCase):
@@ -119,6 +142,71 @@ class CodeTest(unittest.TestCase):
                 self.assertEqual(node.level, 0, place)
                 self.assertTrue(node.module.startswith("hedgerow."), place)
                 self.assertNotIn("*", [alias.name for alias in node.names], place)
+
+    def test_no_two_files_draw_from_one_another(self):
+        drawn = {}
+        for path in package_files():
+            rows = [node for node in tree_of(path).body if isinstance(node, ast.ImportFrom)]
+            drawn["hedgerow." + path.stem] = {node.module for node in rows}
+        while drawn:
+            free = [name for name in drawn if not drawn[name] & set(drawn)]
+            self.assertTrue(free, drawn)
+            drawn = {name: drawn[name] for name in drawn if name not in free}
+
+    def test_names_are_drawn_from_the_file_that_defines_them(self):
+        for place, node in self.each_node():
+            if isinstance(node, ast.ImportFrom):
+                tree = tree_of(PACKAGE / (node.module.split(".")[1] + ".py"))
+                self.assertLessEqual({alias.name for alias in node.names}, set(defined(tree)), place)
+
+    def test_no_local_is_called_like_a_name_of_the_top(self):
+        for path in package_files():
+            tree = tree_of(path)
+            known = set(defined(tree)) | set(imported(tree))
+            for function in [node for node in tree.body if isinstance(node, ast.FunctionDef)]:
+                for node in ast.walk(function):
+                    place = f"{path.name}:{getattr(node, 'lineno', 0)}"
+                    if isinstance(node, ast.arg):
+                        self.assertNotIn(node.arg, known, place)
+                    if isinstance(node, ast.Name) and isinstance(node.ctx, ast.Store):
+                        self.assertNotIn(node.id, known, place)
+
+    def test_what_is_walked_at_once_is_not_kept(self):
+        for path in package_files():
+            tree = tree_of(path)
+            walked = [node.iter for node in ast.walk(tree) if isinstance(node, (ast.For, ast.comprehension))]
+            calls = [node for node in ast.walk(tree) if isinstance(node, ast.Call)]
+            walked += [part for call in calls if called(call) in WALKERS for part in call.args]
+            for call in calls:
+                if called(call) in WALKED:
+                    self.assertIn(call, walked, f"{path.name}:{call.lineno}")
+
+    def test_what_a_loop_walks_is_not_changed_in_it(self):
+        for place, loop in self.each_node():
+            if isinstance(loop, ast.For):
+                names = {node.id for node in ast.walk(loop.iter) if isinstance(node, ast.Name)}
+                for node in ast.walk(loop):
+                    if isinstance(node, ast.Call) and called(node) in CHANGERS:
+                        self.assertNotIn(ast.unparse(node.func.value), names, place)
+                    if isinstance(node, ast.Subscript) and isinstance(node.ctx, ast.Store):
+                        self.assertNotIn(ast.unparse(node.value), names, place)
+
+    def test_is_stands_beside_none_true_and_false(self):
+        for place, node in self.each_node():
+            if isinstance(node, ast.Compare) and isinstance(node.ops[0], (ast.Is, ast.IsNot)):
+                self.assertIn(ast.unparse(node.comparators[0]), ("None", "True", "False"), place)
+
+    def test_numbers_and_texts(self):
+        for place, node in self.each_node():
+            if isinstance(node, ast.BinOp) and isinstance(node.op, ast.Pow):
+                self.assertIsInstance(node.right, ast.Constant, place)
+            if isinstance(node, ast.Constant) and isinstance(node.value, str):
+                self.assertNotIn(chr(37), node.value, place)
+
+    def test_names_that_are_not_used(self):
+        for place, node in self.each_node():
+            for field in ("id", "attr", "arg", "name"):
+                self.assertNotIn(getattr(node, field, None), UNUSED_NAMES, place)
 
     def test_pythons_own_names(self):
         for place, node in self.each_node():

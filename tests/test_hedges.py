@@ -3,26 +3,11 @@
 import copy
 import unittest
 
-from samples import grown, large_hedges, row, small_hedges, star
+from samples import all_lengths, beside, grown, large_hedges, row, small_hedges, star
 
 from hedgerow.hedges import lengths, neighbours, tips, way
 
 FORK = (7, [(0, 3), (1, 3), (2, 5), (3, 4), (4, 5), (5, 6)])
-
-
-def beside(hedge, knot):
-    return [other for other in range(hedge[0]) if (min(knot, other), max(knot, other)) in hedge[1]]
-
-
-def all_lengths(hedge):
-    """The lengths between all knots, by trying each knot as a stop between each two."""
-    many = hedge[0]
-    far = [[0 if a == b else 1 if b in beside(hedge, a) else many for b in range(many)] for a in range(many)]
-    for stop in range(many):
-        for a in range(many):
-            for b in range(many):
-                far[a][b] = min(far[a][b], far[a][stop] + far[stop][b])
-    return far
 
 
 class NeighboursTest(unittest.TestCase):
