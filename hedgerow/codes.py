@@ -20,8 +20,13 @@ def branch_codes(hedge, marks, top):
     return codes
 
 
+def best_top(hedge, marks):
+    return max(middle(hedge), key=lambda top: branch_codes(hedge, marks, top)[top])
+
+
 def greatest_code(hedge, marks):
-    return max([branch_codes(hedge, marks, top)[top] for top in middle(hedge)])
+    top = best_top(hedge, marks)
+    return branch_codes(hedge, marks, top)[top]
 
 
 def code_from(hedge, knot):
